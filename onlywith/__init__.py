@@ -1,0 +1,1 @@
+"""Onlywith: dealings that are done only with partners."""

@@ -1,0 +1,100 @@
+"""What the tests share: the interface, calls that are asked several ways, and values of all sorts."""
+
+import importlib
+import unittest
+
+from onlywith.errors import WithError
+
+# The names of the arguments of each function, as the document writes them.
+INTERFACE = {
+    "terms": {
+        "is_value": ("value",), "is_variable": ("value",), "value_rank": ("value",), "row_rank": ("row",),
+        "variables_of": ("pattern",), "filled": ("pattern", "known"), "known_row": ("known", "variables"),
+        "matched": ("pattern", "row", "known"),
+    },
+    "unifying": {"marked": ("pattern", "number"), "unified": ("equations",), "fits": ("pattern", "other")},
+}
+
+
+def outcome(work):
+    """What a call returns, or the name and what is kept of the error of this package that it raises."""
+    try:
+        return ("returns", work())
+    except WithError as error:
+        return ("raises", error.__class__.__name__, sorted(vars(error).items()), error)
+
+
+def told(result):
+    """An outcome as a text, which tells True from 1, and a list from a tuple."""
+    return repr(result[:3])
+
+
+def steady(module, name):
+    """The function of the program, asked by place, by name and by place again.
+
+    Each time the result has to be the same, and what is passed has to stay as it is ([A3]).
+    """
+    function = getattr(importlib.import_module("onlywith." + module), name)
+    names = INTERFACE[module][name]
+
+    def asked(*values):
+        before = repr(values)
+        first = outcome(lambda: function(*values))
+        text = told(first)
+        second = outcome(lambda: function(**dict(zip(names, values))))
+        third = outcome(lambda: function(*values))
+        if not text == told(first) == told(second) == told(third):
+            raise AssertionError(f"{name}: {told(first)}, then {told(second)}, then {told(third)}")
+        if repr(values) != before:
+            raise AssertionError(f"{name} changed what it was passed: {before}")
+        if first[0] == "raises":
+            raise first[3]
+        return first[1]
+
+    return asked
+
+
+class Case(unittest.TestCase):
+    """A test case that compares values along with their kinds."""
+
+    def gives(self, found, expected):
+        self.assertEqual(repr(found), repr(expected))
+
+    def raises(self, name, kept, function, *values):
+        """The call raises the error of this name, which keeps just these pairs (name, value)."""
+        try:
+            found = function(*values)
+        except WithError as error:
+            self.gives((error.__class__.__name__, vars(error)), (name, kept))
+        else:
+            self.fail(f"{name} is not raised, but returned: {found!r}")
+
+
+def nested(value, deep):
+    """The value within so many tuples, lists and dicts, by turns."""
+    for number in range(deep):
+        value = ((value,), [value], {"a": value})[number % 3]
+    return value
+
+
+# Values that are neither values nor variables, nor tuples.
+ODD = [
+    None, True, False, 10 ** 9 + 1, -10 ** 9 - 1, 10 ** 400 - 1, 1 - 10 ** 400, "", " ", "Anna", "aNna", "an na",
+    "anna1", "an-na", "anna\n", "a" * 13, "a" * 20000, "A" * 20000, "1", "-7", "\n", "?", "??x", "?X", "?x1", "?days",
+    "? x", "x?", "?x ", "?x.", "?x.-1", "?x.07", "?x.00", "?x.1.2", "?x.+1", "?x. 1", "?x.1 ", "?x.1\n", "?.1",
+    "?days.1", "?x.a", "?x.1000000001", "?x.01000000000", "?x." + "1" * 19000, "?x." + "0" * 19000, "." * 20000,
+    [], {}, ["a"], {"a": 1}, {1: {"?x": None}}, nested("a", 19), [()] * 4000,
+]
+
+TUPLES = [
+    (), ((),), (None,), (1,), ("a",), ("?x",), (1, 2), ("a", "b", "c"), ((), ()), ([], {}), (True, False, 1),
+    ((), (), (), ()), ((1, 2), (3, 4)), nested(1, 19), tuple(range(4000)), (("a", (1,)),), ((("a", 1, ()),), ()),
+]
+
+VALUES = [0, 1, -1, 7, 10 ** 9, -10 ** 9, "a", "z", "anna", "abcdefghijkl", "z" * 12, "none", "true"]
+
+VARIABLES = [
+    "?a", "?z", "?x", "?ab", "?xyz", "?x.0", "?x.7", "?x.10", "?day.12", "?xyz.1000000000", "?a.999999999",
+]
+
+ANY = ODD + TUPLES + VALUES + VARIABLES

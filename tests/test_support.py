@@ -1,0 +1,63 @@
+"""Tests of what the tests share, so that a check that passes tells something."""
+
+import unittest
+
+from doc_examples import examples_of, wrong_examples
+from support import ANY, INTERFACE, Case, steady
+import support
+
+
+class Examples(Case):
+    """Each example of the document gives what stands behind it."""
+
+    def test_part_a(self):
+        self.gives(wrong_examples("part_a.txt"), ([], 16))
+
+    def test_reading(self):
+        text = ">>> a = 1\n>>> a\n1\n\nwords\n>>> b()\nraises Bad(3)\n"
+        self.gives(examples_of(text), [("a = 1", None), ("a", "1"), ("b()", "raises Bad(3)")])
+
+
+class Steady(Case):
+    """The checks of steady find what they look for."""
+
+    def tearDown(self):
+        INTERFACE["terms"].pop("probe", None)
+
+    def probe(self, function):
+        module = support.importlib.import_module("onlywith.terms")
+        module.probe = function
+        INTERFACE["terms"]["probe"] = ("value",)
+        try:
+            return steady("terms", "probe")
+        finally:
+            del module.probe
+
+    def test_right(self):
+        self.gives(self.probe(lambda value: (value,))([3]), ([3],))
+
+    def test_other_name(self):
+        with self.assertRaises(TypeError):
+            self.probe(lambda other: other)(3)
+
+    def test_other_results(self):
+        count = []
+
+        def counted(value):
+            count.append(value)
+            return len(count)
+
+        with self.assertRaises(AssertionError):
+            self.probe(counted)(3)
+
+    def test_change_of_what_is_passed(self):
+        with self.assertRaises(AssertionError):
+            self.probe(lambda value: value.clear())([3])
+
+    def test_any_values(self):
+        self.gives(max(len(repr(value)) for value in ANY) > 19000, True)
+        self.gives(len({repr(value) for value in ANY}), len(ANY))
+
+
+if __name__ == "__main__":
+    unittest.main()
