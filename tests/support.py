@@ -13,6 +13,21 @@ INTERFACE = {
         "matched": ("pattern", "row", "known"),
     },
     "unifying": {"marked": ("pattern", "number"), "unified": ("equations",), "fits": ("pattern", "other")},
+    "stores": {
+        "store_error": ("value",), "fact_rank": ("fact",), "key_of": ("schema", "fact"), "rival": ("store", "fact"),
+        "change_error": ("store", "value"), "changed": ("store", "change"),
+    },
+    "questions": {
+        "question_error": ("schema", "value"), "question_variables": ("question",), "answers": ("store", "question"),
+        "lets_by": ("store", "question", "row"), "parting_answer": ("store", "other", "question"),
+    },
+    "histories": {
+        "store_at": ("history", "version"), "grown": ("history", "change"), "turns": ("history", "question"),
+    },
+    "wishes": {
+        "wish_error": ("schema", "value"), "fillings": ("store", "wish"), "said": ("wish", "filling"),
+        "wanted": ("wish", "filling"), "writes_of": ("wish", "filling"), "own_clash": ("schema", "wish", "filling"),
+    },
 }
 
 

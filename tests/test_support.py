@@ -13,6 +13,12 @@ class Examples(Case):
     def test_part_a(self):
         self.gives(wrong_examples("part_a.txt"), ([], 16))
 
+    def test_part_b(self):
+        self.gives(wrong_examples("part_b.txt"), ([], 33))
+
+    def test_part_c(self):
+        self.gives(wrong_examples("part_c.txt"), ([], 15))
+
     def test_reading(self):
         text = ">>> a = 1\n>>> a\n1\n\nwords\n>>> b()\nraises Bad(3)\n"
         self.gives(examples_of(text), [("a = 1", None), ("a", "1"), ("b()", "raises Bad(3)")])

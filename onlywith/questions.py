@@ -1,0 +1,109 @@
+"""Questions and their answers ([B5], [B6])."""
+
+from onlywith.bounds import MAX_ANSWERS, MAX_PATTERNS, MAX_TESTS
+from onlywith.errors import TooMany
+from onlywith.joins import holds, joined_rows
+from onlywith.stores import widths_of
+from onlywith.terms import (
+    filled, is_row, is_term_of, is_tuple, is_value, is_variable, known_row, matched, row_rank, value_rank,
+    variables_of,
+)
+
+SIGNS = ("=", "!=", "<")
+
+
+def is_named_pattern(widths, value):
+    """Whether any value is a pair of the name of a relation and a pattern as wide as it."""
+    if not is_tuple(value, 2):
+        return False
+    name, pattern = value
+    if not isinstance(name, str) or name not in widths or not is_tuple(pattern, widths[name]):
+        return False
+    return all([is_value(term) or is_variable(term) for term in pattern])
+
+
+def is_test(value, variables):
+    """Whether any value is a test between values and some variables."""
+    if not is_tuple(value, 3):
+        return False
+    sign, one, other = value
+    return sign in SIGNS and is_term_of(one, variables) and is_term_of(other, variables)
+
+
+def question_error(schema, value):
+    """What is wrong with any value as a question of the schema; None for a question ([B5])."""
+    if not is_tuple(value, 2):
+        return "form"
+    patterns, tests = value
+    if not isinstance(patterns, tuple) or not 1 <= len(patterns) <= MAX_PATTERNS:
+        return "patterns"
+    widths = widths_of(schema)
+    for place, item in enumerate(patterns):
+        if not is_named_pattern(widths, item):
+            return ("pattern", place)
+    if not isinstance(tests, tuple) or len(tests) > MAX_TESTS:
+        return "tests"
+    variables = question_variables(value)
+    for place, item in enumerate(tests):
+        if not is_test(item, variables):
+            return ("test", place)
+    return None
+
+
+def question_variables(question):
+    """The variables of the patterns of a question, ascending, each once ([B5])."""
+    return variables_of([term for _, pattern in question[0] for term in pattern])
+
+
+def table_of(facts, name, pattern):
+    """The table, as joins have it, of the variables of a pattern on the facts of its relation."""
+    variables = variables_of(pattern)
+    rows = []
+    for relation, row in facts:
+        if relation == name:
+            known = matched(pattern, row, ())
+            if known is not None:
+                rows.append(row_rank(known_row(known, variables)))
+    return (variables, rows)
+
+
+def answers_on(facts, question):
+    """answers, on facts in any order."""
+    patterns, tests = question
+    # Patterns that stand there twice ask nothing further.
+    tables = [table_of(facts, name, pattern) for name, pattern in {item: True for item in patterns}]
+    found = joined_rows(tables, tests, question_variables(question), MAX_ANSWERS + 1)
+    if len(found) > MAX_ANSWERS:
+        raise TooMany(MAX_ANSWERS)
+    return tuple([tuple([value for _, value in row]) for row in sorted(found)])
+
+
+def answers(store, question):
+    """The answers of a question on a store, ascending, each once ([B6])."""
+    return answers_on(store[1], question)
+
+
+def lets_by(store, question, row):
+    """Whether row, any value, is an answer of a question on a store ([B6])."""
+    variables = question_variables(question)
+    if not is_tuple(row, len(variables)) or not is_row(row):
+        return False
+    known = tuple(zip(variables, row))
+    facts = {fact: True for fact in store[1]}
+    patterns, tests = question
+    for name, pattern in patterns:
+        if (name, filled(pattern, known)) not in facts:
+            return False
+    for sign, one, other in tests:
+        first, second = filled((one, other), known)
+        if not holds(sign, value_rank(first), value_rank(second)):
+            return False
+    return True
+
+
+def parting_answer(store, other, question):
+    """The first row that is an answer on just one of two stores; None if there is none ([B6])."""
+    ours = {row: True for row in answers(store, question)}
+    theirs = {row: True for row in answers(other, question)}
+    parting = [row for row in ours if row not in theirs] + [row for row in theirs if row not in ours]
+    return min(parting, key=row_rank, default=None)
