@@ -67,15 +67,23 @@ def table_of(facts, name, pattern):
     return (variables, rows)
 
 
-def answers_on(facts, question):
-    """answers, on facts in any order."""
+def answers_up_to(facts, question, most):
+    """answers, on facts in any order; None if there are more than most of them."""
     patterns, tests = question
     # Patterns that stand there twice ask nothing further.
     tables = [table_of(facts, name, pattern) for name, pattern in {item: True for item in patterns}]
-    found = joined_rows(tables, tests, question_variables(question), MAX_ANSWERS + 1)
-    if len(found) > MAX_ANSWERS:
-        raise TooMany(MAX_ANSWERS)
+    found = joined_rows(tables, tests, question_variables(question), most + 1)
+    if len(found) > most:
+        return None
     return tuple([tuple([value for _, value in row]) for row in sorted(found)])
+
+
+def answers_on(facts, question):
+    """answers, on facts in any order."""
+    found = answers_up_to(facts, question, MAX_ANSWERS)
+    if found is None:
+        raise TooMany(MAX_ANSWERS)
+    return found
 
 
 def answers(store, question):
@@ -83,22 +91,26 @@ def answers(store, question):
     return answers_on(store[1], question)
 
 
-def lets_by(store, question, row):
-    """Whether row, any value, is an answer of a question on a store ([B6])."""
+def is_answer_on(table, question, row):
+    """Whether row, any value, is an answer of a question, by a dict {fact: True} of the facts of a store."""
     variables = question_variables(question)
     if not is_tuple(row, len(variables)) or not is_row(row):
         return False
     known = tuple(zip(variables, row))
-    facts = {fact: True for fact in store[1]}
     patterns, tests = question
     for name, pattern in patterns:
-        if (name, filled(pattern, known)) not in facts:
+        if (name, filled(pattern, known)) not in table:
             return False
     for sign, one, other in tests:
         first, second = filled((one, other), known)
         if not holds(sign, value_rank(first), value_rank(second)):
             return False
     return True
+
+
+def lets_by(store, question, row):
+    """Whether row, any value, is an answer of a question on a store ([B6])."""
+    return is_answer_on({fact: True for fact in store[1]}, question, row)
 
 
 def parting_answer(store, other, question):

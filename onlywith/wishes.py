@@ -88,16 +88,22 @@ def wanted(wish, filling):
     return tuple([(word, filled(pattern, known)) for word, pattern in wish[2]])
 
 
-def written(wish, filling, wanted_sign):
-    """The facts that the wish writes with one sign, ascending, each once."""
+def placed_writes(wish, filling):
+    """The pairs (sign, fact) of the writes of the wish with the filling, in its order."""
     known = known_of(wish, filling)
-    facts = {(name, filled(pattern, known)): True for sign, name, pattern in wish[3] if sign == wanted_sign}
-    return tuple(sorted(list(facts), key=fact_rank))
+    return [(sign, (name, filled(pattern, known))) for sign, name, pattern in wish[3]]
+
+
+def sorted_facts(facts):
+    """The facts, ascending, each once."""
+    return tuple(sorted(list({fact: True for fact in facts}), key=fact_rank))
 
 
 def writes_of(wish, filling):
     """The outs and the ins of the wish with the filling ([C3])."""
-    return (written(wish, filling, "out"), written(wish, filling, "in"))
+    writes = placed_writes(wish, filling)
+    outs = [fact for sign, fact in writes if sign == "out"]
+    return (sorted_facts(outs), sorted_facts([fact for sign, fact in writes if sign == "in"]))
 
 
 def own_clash(schema, wish, filling):
