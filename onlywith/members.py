@@ -28,9 +28,9 @@ class Writers:
     """Which members have which facts as outs and as ins; writes are those of each member."""
 
     def __init__(self, store, writes):
-        self.keys = keys_of(store[0])
+        self.columns = keys_of(store[0])
         # {key: the fact of the store that has it}
-        self.holders = {key_in(self.keys, fact): fact for fact in store[1]}
+        self.holders = {key_in(self.columns, fact): fact for fact in store[1]}
         # {fact: family} of the members that take the fact out, that bring it in.
         self.takers = {}
         self.bringers = {}
@@ -40,13 +40,13 @@ class Writers:
         # {key: the unlike facts with this key that are ins}
         self.alike = {}
         for fact in self.bringers:
-            self.alike.setdefault(key_in(self.keys, fact), []).append(fact)
+            self.alike.setdefault(key_in(self.columns, fact), []).append(fact)
 
-    def ways(self, items):
+    def ways_of(self, items):
         """{place of an in with a rival: the members that take the rival out}, of a member's writes."""
         found = {}
         for place, (sign, fact) in enumerate(items):
-            key = key_in(self.keys, fact)
+            key = key_in(self.columns, fact)
             if sign == "in" and key is not None and self.holders.get(key, fact) != fact:
                 found[place] = self.takers.get(self.holders[key], 0)
         return found
@@ -56,7 +56,7 @@ class Writers:
         found = 0
         for sign, fact in items:
             found |= (self.bringers if sign == "out" else self.takers).get(fact, 0)
-            key = key_in(self.keys, fact)
+            key = key_in(self.columns, fact)
             if sign == "in" and key is not None:
                 for other in self.alike[key]:
                     found |= self.bringers[other] if other != fact else 0
@@ -77,28 +77,53 @@ class Crowd:
         # At each place: the members of the same number, among them the member itself.
         self.same = [self.numbered[number] for number, _ in members]
         wishes = dict(pool)
-        told = [(wishes[number], filling) for number, filling in members]
+        deeds = [(wishes[number], filling) for number, filling in members]
         # At each place: whether the member clashes with itself.
-        self.owns = [own_clash(store[0], wish, filling) is not None for wish, filling in told]
+        self.owns = [own_clash(store[0], wish, filling) is not None for wish, filling in deeds]
         # At each place, for each want: the members of other numbers that say it.
-        self.wants = self.makers(told)
-        writes = [placed_writes(wish, filling) for wish, filling in told]
+        self.wants = self.makers(deeds)
+        writes = [placed_writes(wish, filling) for wish, filling in deeds]
         writers = Writers(store, writes)
         # At each place: {place of an in with a rival: the members that take the rival out}.
-        self.ways = [writers.ways(items) for items in writes]
+        self.ways = [writers.ways_of(items) for items in writes]
         # At each place: the members of other numbers with which the member clashes.
         self.clashes = [writers.against(items) & ~same for items, same in zip(writes, self.same)]
+        # At each place: the families of each of which a member has to be in a lot with the member there.
+        self.needs = [self.needs_of(at) for at in range(len(members))]
 
-    def makers(self, told):
-        """What wants is; told has the wish and the filling of each member."""
+    def makers(self, deeds):
+        """What wants is; deeds has the wish and the filling of each member."""
         sayers = {}
-        for at, (wish, filling) in enumerate(told):
+        for at, (wish, filling) in enumerate(deeds):
             for saying in said(wish, filling):
                 note(sayers, saying, at)
         return [
             [sayers.get(want, 0) & ~same for want in wanted(wish, filling)]
-            for (wish, filling), same in zip(told, self.same)
+            for (wish, filling), same in zip(deeds, self.same)
         ]
+
+    def needs_of(self, at):
+        """What needs is at a place."""
+        if self.owns[at]:
+            return [0]
+        # Others of the same number cannot be in a lot with the member.
+        others = ~self.same[at]
+        ways = [takers & others for takers in list(self.ways[at].values()) if not takers & (1 << at)]
+        return list(self.wants[at]) + ways
+
+    def kept(self, family):
+        """The greatest part of a family within which each of its members has what it needs."""
+        ahead = -1
+        while family != ahead:
+            ahead = family
+            for at in places_of(family):
+                if not all([need & family for need in self.needs[at]]):
+                    family ^= 1 << at
+        return family
+
+    def told(self, family):
+        """The members of a family, ascending."""
+        return tuple([self.members[at] for at in places_of(family)])
 
     def reason(self, left, at):
         """The first reason to strike the member at a place that is true of it with left ([D2]); or None."""

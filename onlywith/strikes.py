@@ -69,7 +69,7 @@ def struck(store, pool):
         lines.append(crowd.members[at] + (reason,))
         left ^= 1 << at
         strike = first_strike(crowd, left)
-    return (tuple([crowd.members[at] for at in places_of(left)]), tuple(lines))
+    return (crowd.told(left), tuple(lines))
 
 
 def line_place(crowd, left, line):

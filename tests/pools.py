@@ -1,0 +1,117 @@
+"""Pools that are drawn for tests, and what the document tells of lots on them, tried out word by word."""
+
+import itertools
+
+from onlywith.stores import key_of, rival
+from onlywith.terms import row_rank
+from onlywith.wishes import fillings, said, wanted, writes_of
+from onlywith.terms import filled
+from onlywith.questions import question_variables
+
+SCHEMA = (("day", 1, ()), ("seat", 2, (0,)), ("tag", 2, (0,)))
+
+
+def drawn_store(chance, days=3):
+    """A store with some days and seats."""
+    facts = [("day", (number,)) for number in range(days) if chance.random() < 0.85]
+    facts += [("seat", (number, chance.choice("ab"))) for number in range(3) if chance.random() < 0.4]
+    facts += [("tag", (number, 0)) for number in range(2) if chance.random() < 0.3]
+    return (SCHEMA, tuple(facts))
+
+
+def drawn_wish(chance, words):
+    """A wish on the days, that says and wants some of the words."""
+    patterns, tests = [("day", ("?d",))], []
+    if chance.random() < 0.3:
+        patterns.append(("day", ("?e",)))
+    if chance.random() < 0.3:
+        patterns.append(("seat", ("?e", "?s")))
+    variables = list(question_variables((patterns, ())))
+    if chance.random() < 0.4:
+        tests.append((chance.choice(("=", "!=", "<")), chance.choice(variables), chance.choice(variables + [1])))
+    terms = variables + ["?d", "?d", 1]
+
+    def spoken(most):
+        many = chance.choice([number for number in (0, 1, 1, 1, 2, 3) if number <= most])
+        return tuple((chance.choice(words), tuple(chance.choice(terms) for _ in range(chance.choice((0, 1, 1))))) for _ in range(many))
+
+    writes = []
+    for _ in range(chance.choice((0, 0, 1, 1, 2))):
+        name = chance.choice(("seat", "seat", "tag"))
+        row = (chance.choice(terms), chance.choice(["a", "b", 0] + terms))
+        writes.append((chance.choice(("in", "in", "out")), name, row))
+    return ((tuple(patterns), tuple(tests)), spoken(3), spoken(2), tuple(writes))
+
+
+def drawn_pool(chance, many, words):
+    """A pool of so many wishes, with numbers that leave gaps."""
+    numbers = sorted(chance.sample(range(3 * many + 1), many))
+    return tuple((number, drawn_wish(chance, words)) for number in numbers)
+
+
+def members_of(store, pool):
+    """All members, ascending."""
+    return [(number, filling) for number, wish in pool for filling in fillings(store, wish)]
+
+
+class Lots:
+    """The lots of a pool on a store, as [E2] tells them."""
+
+    def __init__(self, store, pool):
+        self.store, self.pool, self.wishes = store, pool, dict(pool)
+        self.members = members_of(store, pool)
+        self.memory = {}
+
+    def told(self, member):
+        """The pairs of what a member says, wants, its outs and its ins."""
+        if member not in self.memory:
+            wish = self.wishes[member[0]]
+            outs, ins = writes_of(wish, member[1])
+            self.memory[member] = (said(wish, member[1]), wanted(wish, member[1]), outs, ins)
+        return self.memory[member]
+
+    def one_key(self, one, other):
+        key = key_of(self.store[0], one)
+        return one != other and key is not None and key == key_of(self.store[0], other)
+
+    def clash(self, one, other):
+        """Whether an in of one is an out of other, or has the key of an unlike in of it; both ways round."""
+        pairs = ((self.told(one), self.told(other)), (self.told(other), self.told(one)))
+        return any(
+            fact in second[2] or any(self.one_key(fact, further) for further in second[3])
+            for first, second in pairs for fact in first[3]
+        )
+
+    def way(self, outs, fact):
+        """Whether an in is in no unlike fact's way that is no out."""
+        found = rival(self.store, fact)
+        return found is None or found in outs
+
+    def stand(self, lot):
+        """Whether members with ascending numbers stand."""
+        outs = [fact for member in lot for fact in self.told(member)[2]]
+        for member in lot:
+            others = [saying for other in lot if other != member for saying in self.told(other)[0]]
+            if any(want not in others for want in self.told(member)[1]):
+                return False
+            if any(self.clash(member, other) for other in lot):
+                return False
+            if not all(self.way(outs, fact) for fact in self.told(member)[3]):
+                return False
+        return bool(lot)
+
+    def all_standing(self):
+        """All lots that stand."""
+        choices = [[None] + [member for member in self.members if member[0] == number] for number, _ in self.pool]
+        lots = [tuple(member for member in chosen if member) for chosen in itertools.product(*choices)]
+        return [lot for lot in lots if self.stand(lot)]
+
+    def smaller(self, lot):
+        """The smaller lots of its members with its least number that stand, by their numbers."""
+        parts = [lot[:1] + part for many in range(len(lot) - 1) for part in itertools.combinations(lot[1:], many)]
+        return sorted((part for part in parts if self.stand(part)), key=lambda part: [number for number, _ in part])
+
+    def first(self):
+        """The first group, or None."""
+        groups = [lot for lot in self.all_standing() if not self.smaller(lot)]
+        return min(groups, key=lambda lot: ([number for number, _ in lot], [row_rank(row) for _, row in lot]), default=None)
