@@ -2,7 +2,7 @@
 
 from onlywith.bounds import MAX_ANSWERS, MAX_PATTERNS, MAX_TESTS
 from onlywith.errors import TooMany
-from onlywith.joins import holds, joined_rows
+from onlywith.joins import holds, joined_rows, least_row
 from onlywith.stores import widths_of
 from onlywith.terms import (
     filled, is_row, is_term_of, is_tuple, is_value, is_variable, known_row, matched, row_rank, value_rank,
@@ -55,27 +55,43 @@ def question_variables(question):
     return variables_of([term for _, pattern in question[0] for term in pattern])
 
 
-def table_of(facts, name, pattern):
-    """The table, as joins have it, of the variables of a pattern on the facts of its relation."""
+def table_of(rows, pattern):
+    """The table, as joins have it, of the variables of a pattern on the rows of its relation."""
     variables = variables_of(pattern)
-    rows = []
-    for relation, row in facts:
-        if relation == name:
-            known = matched(pattern, row, ())
-            if known is not None:
-                rows.append(row_rank(known_row(known, variables)))
-    return (variables, rows)
+    knowns = [matched(pattern, row, ()) for row in rows]
+    return (variables, [row_rank(known_row(known, variables)) for known in knowns if known is not None])
+
+
+def tables_of(facts, patterns):
+    """The tables of the patterns of a question on facts in any order."""
+    rows = {}
+    for name, row in facts:
+        rows.setdefault(name, []).append(row)
+    # Patterns that stand there twice ask nothing further.
+    return [table_of(rows.get(name, []), pattern) for name, pattern in {item: True for item in patterns}]
+
+
+def values_of(ranks):
+    """The row that has these ranks."""
+    return tuple([value for _, value in ranks])
+
+
+def least_answer(facts, question, variables):
+    """The values that the least answer has for variables, compared in their order; None without answers.
+
+    Unlike answers it does not go through all of them.
+    """
+    ranks = least_row(tables_of(facts, question[0]), question[1], variables)
+    return None if ranks is None else values_of(ranks)
 
 
 def answers_up_to(facts, question, most):
     """answers, on facts in any order; None if there are more than most of them."""
-    patterns, tests = question
-    # Patterns that stand there twice ask nothing further.
-    tables = [table_of(facts, name, pattern) for name, pattern in {item: True for item in patterns}]
-    found = joined_rows(tables, tests, question_variables(question), most + 1)
+    tables = tables_of(facts, question[0])
+    found = joined_rows(tables, question[1], question_variables(question), most + 1)
     if len(found) > most:
         return None
-    return tuple([tuple([value for _, value in row]) for row in sorted(found)])
+    return tuple([values_of(row) for row in sorted(found)])
 
 
 def answers_on(facts, question):
