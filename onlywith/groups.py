@@ -26,9 +26,9 @@ class Search:
     def find(self, left, musts):
         """A group of members left with one of each of the musts; 0 if there is none."""
         self.musts = musts
-        return self.group(left, 0)
+        return self.search(left, 0)
 
-    def group(self, left, settled):
+    def search(self, left, settled):
         """A group of members left, the settled ones among them; 0 if there is none."""
         left, found = self.narrowed(left, settled)
         if found or settled & ~left:
@@ -36,7 +36,7 @@ class Search:
         for at in places_of(self.choices(left, settled)):
             member = 1 << at
             with_it = left & ~self.crowd.same[at] & ~self.crowd.clashes[at]
-            found = self.group(with_it | member, settled | member)
+            found = self.search(with_it | member, settled | member)
             if found:
                 return found
             left ^= member

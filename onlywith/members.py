@@ -81,7 +81,7 @@ class Crowd:
         # At each place: whether the member clashes with itself.
         self.owns = [own_clash(store[0], wish, filling) is not None for wish, filling in deeds]
         # At each place, for each want: the members of other numbers that say it.
-        self.wants = self.makers(deeds)
+        self.wants = self.wants_of(deeds)
         writes = [placed_writes(wish, filling) for wish, filling in deeds]
         writers = Writers(store, writes)
         # At each place: {place of an in with a rival: the members that take the rival out}.
@@ -91,7 +91,7 @@ class Crowd:
         # At each place: the families of each of which a member has to be in a lot with the member there.
         self.needs = [self.needs_of(at) for at in range(len(members))]
 
-    def makers(self, deeds):
+    def wants_of(self, deeds):
         """What wants is; deeds has the wish and the filling of each member."""
         sayers = {}
         for at, (wish, filling) in enumerate(deeds):
