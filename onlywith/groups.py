@@ -23,7 +23,7 @@ class Search:
                 for helper in places_of(need):
                     self.uses[helper].append((at, need))
 
-    def find(self, left, musts):
+    def seek(self, left, musts):
         """A group of members left with one of each of the musts; 0 if there is none."""
         self.musts = musts
         return self.search(left, 0)
@@ -121,13 +121,13 @@ def with_first_numbers(search, left, group):
     """
     musts, exact = [], 0
     for family in list(search.crowd.numbered.values()):
-        found = group if group & family else search.find(left, musts + [family])
+        found = group if group & family else search.seek(left, musts + [family])
         if not found:
             left &= ~family
             continue
         group, musts, exact = found, musts + [family], exact | (family & left)
         # A tuple of numbers comes ahead of those that it begins.
-        found = group if not group & ~exact else search.find(exact, musts)
+        found = group if not group & ~exact else search.seek(exact, musts)
         if found:
             return (found, exact, musts)
     return (group, exact, musts)
@@ -138,7 +138,7 @@ def with_first_fillings(search, group, left, musts):
     for family in musts:
         for at in places_of(family & left):
             fewer = (left & ~family) | (1 << at)
-            found = group if not group & ~fewer else search.find(fewer, musts)
+            found = group if not group & ~fewer else search.seek(fewer, musts)
             if found:
                 group, left = found, fewer
                 break
@@ -150,7 +150,7 @@ def first_family(crowd):
     search = Search(crowd)
     left = crowd.kept(crowd.everyone)
     for family in list(crowd.numbered.values()):
-        group = search.find(left, [family])
+        group = search.seek(left, [family])
         if group:
             group, left, musts = with_first_numbers(search, left, group)
             return with_first_fillings(search, group, left, musts)

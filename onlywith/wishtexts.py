@@ -13,8 +13,8 @@ FIGURES = "0123456789"
 # {sign of a write: how its text begins}
 MARKS = {"in": "+", "out": "-"}
 
-# {first word of a part behind the body: how many items it has at most}, in the order of the parts.
-PARTS = {"say": MAX_SAYINGS, "want": MAX_WANTS, "do": MAX_WRITES}
+# The first words of the parts behind the body, in their order.
+PARTS = ("say", "want", "do")
 
 
 def call_text(word, pattern):
@@ -157,9 +157,10 @@ class Reader:
 
     def part(self, part):
         """Reads a part behind the body, from its first word on."""
+        most = {"say": MAX_SAYINGS, "want": MAX_WANTS, "do": MAX_WRITES}[part]
         self.take(part + " ")
         found = [self.item(part)]
-        while self.comes(",") and len(found) < PARTS[part]:
+        while self.comes(",") and len(found) < most:
             self.take(", ")
             found.append(self.item(part))
         return tuple(found)

@@ -2,11 +2,10 @@
 
 import itertools
 
-from onlywith.stores import key_of, rival
-from onlywith.terms import row_rank
-from onlywith.wishes import fillings, said, wanted, writes_of
-from onlywith.terms import filled
 from onlywith.questions import question_variables
+from onlywith.stores import key_of, rival
+from onlywith.terms import filled, row_rank
+from onlywith.wishes import fillings, said, wanted, writes_of
 
 SCHEMA = (("day", 1, ()), ("seat", 2, (0,)), ("tag", 2, (0,)))
 
@@ -82,6 +81,37 @@ class Lots:
             for first, second in pairs for fact in first[3]
         )
 
+    def breaks_alone(self, member):
+        """Whether a member breaks (c) or (d) of [E2] by itself."""
+        _, _, outs, ins = self.told(member)
+        return any(fact in outs or any(self.one_key(fact, other) for other in ins) for fact in ins)
+
+    def placed_write(self, member, place):
+        """The sign and the fact of a member's write at a place."""
+        wish = self.wishes[member[0]]
+        sign, name, pattern = wish[3][place]
+        return sign, (name, filled(pattern, tuple(zip(question_variables(wish[0]), member[1]))))
+
+    def is_true(self, left, member, reason):
+        """Whether a reason of [D2], by its form, is true of a member of left."""
+        if reason == ("own",):
+            return self.breaks_alone(member)
+        word, place = reason
+        wish = self.wishes[member[0]]
+        if word == "want":
+            others = [saying for other in left if other[0] != member[0] for saying in self.told(other)[0]]
+            return 0 <= place < len(wish[2]) and self.told(member)[1][place] not in others
+        if word != "key" or not 0 <= place < len(wish[3]):
+            return False
+        sign, fact = self.placed_write(member, place)
+        found = rival(self.store, fact)
+        return sign == "in" and found is not None and not any(found in self.told(other)[2] for other in left)
+
+    def reasons(self, left, member):
+        """All reasons that are true of a member of left, in the order of reason_of."""
+        some = [("own",)] + [("want", place) for place in range(4)] + [("key", place) for place in range(6)]
+        return [reason for reason in some if self.is_true(left, member, reason)]
+
     def way(self, outs, fact):
         """Whether an in is in no unlike fact's way that is no out."""
         found = rival(self.store, fact)
@@ -105,6 +135,22 @@ class Lots:
         choices = [[None] + [member for member in self.members if member[0] == number] for number, _ in self.pool]
         lots = [tuple(member for member in chosen if member) for chosen in itertools.product(*choices)]
         return [lot for lot in lots if self.stand(lot)]
+
+    def error(self, lot):
+        """What lot_error tells of a lot of members."""
+        numbers = range(len(lot))
+        found = [("own", at) for at in numbers if self.breaks_alone(lot[at])]
+        for at in numbers:
+            others = [saying for further in numbers if further != at for saying in self.told(lot[further])[0]]
+            found += [("want", at, place) for place, want in enumerate(self.told(lot[at])[1]) if want not in others]
+        found += [("clash", at, further) for at in numbers for further in numbers[at + 1:] if self.clash(lot[at], lot[further])]
+        outs = [fact for member in lot for fact in self.told(member)[2]]
+        for at in numbers:
+            for place in range(len(self.wishes[lot[at][0]][3])):
+                sign, fact = self.placed_write(lot[at], place)
+                if sign == "in" and not self.way(outs, fact):
+                    found.append(("key", at, place))
+        return found[0] if found else (None if lot else "empty")
 
     def smaller(self, lot):
         """The smaller lots of its members with its least number that stand, by their numbers."""

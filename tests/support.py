@@ -28,6 +28,29 @@ INTERFACE = {
         "wish_error": ("schema", "value"), "fillings": ("store", "wish"), "said": ("wish", "filling"),
         "wanted": ("wish", "filling"), "writes_of": ("wish", "filling"), "own_clash": ("schema", "wish", "filling"),
     },
+    "wishtexts": {"wish_text": ("wish",), "read_wish": ("value",)},
+    "strikes": {
+        "pool_error": ("schema", "value"), "candidates": ("store", "pool"), "struck": ("store", "pool"),
+        "reason_of": ("store", "pool", "left", "member"), "lines_hold": ("store", "pool", "value"),
+    },
+    "lots": {
+        "lot_error": ("store", "pool", "value"), "stands": ("store", "pool", "lot"), "lot_change": ("pool", "lot"),
+        "group_error": ("store", "pool", "value"),
+    },
+    "groups": {"first_group": ("store", "pool")},
+    "papers": {"no_paper": ("store", "pool"), "no_holds": ("store", "pool", "value")},
+    "tame": {
+        "tame_error": ("schema", "pool"), "makers": ("pool", "number", "place"), "partners": ("pool", "number"),
+        "joined": ("pool", "number"), "tame_first": ("store", "pool"), "tame_paper": ("store", "pool", "number"),
+    },
+    "kinds": {
+        "constants_of": ("templates",), "kinds_of": ("templates", "place"),
+        "kind_of": ("templates", "place", "filling"), "shape": ("templates", "place", "kind", "pattern"),
+    },
+    "ever": {
+        "family": ("templates",), "can_ever": ("templates", "place"), "ever_lot": ("templates", "place"),
+        "ever_holds": ("templates", "place", "value"),
+    },
 }
 
 
@@ -83,6 +106,50 @@ class Case(unittest.TestCase):
             self.gives((error.__class__.__name__, vars(error)), (name, kept))
         else:
             self.fail(f"{name} is not raised, but returned: {found!r}")
+
+
+def paths_of(value, ahead=()):
+    """The paths to the value itself and to all that is within its tuples."""
+    found = [ahead]
+    for place, item in enumerate(value if isinstance(value, tuple) else ()):
+        found += paths_of(item, ahead + (place,))
+    return found
+
+
+def at_path(value, path):
+    """What stands at a path within a value."""
+    for place in path:
+        value = value[place]
+    return value
+
+
+def with_at(value, path, new):
+    """The value with something new at a path."""
+    if not path:
+        return new
+    return value[:path[0]] + (with_at(value[path[0]], path[1:], new),) + value[path[0] + 1:]
+
+
+def spoilt_item(chance, item, others):
+    """Something else in the place of an item; others are what stands elsewhere."""
+    if isinstance(item, tuple) and item and chance.random() < 0.8:
+        place, further = chance.randrange(len(item)), chance.randrange(len(item))
+        rest = item[:place] + item[place + 1:]
+        return chance.choice([
+            rest, rest[:further] + (item[place],) + rest[further:], item[:place] + (item[place],) + item[place:], list(item),
+            item[:place] + (None,) + item[place + 1:], item + (chance.choice(others),), item[::-1],
+        ])
+    if isinstance(item, int) and chance.random() < 0.5:
+        return chance.choice([item + 1, item - 1, -item, item == 1, str(item), bool(item)])
+    return chance.choice([None, (), [], item == 1, 0, 1, "own", "want", "key", "clash"] + others)
+
+
+def spoilt(chance, value):
+    """The value with something else at one place within it."""
+    paths = paths_of(value)
+    path = chance.choice(paths)
+    others = [at_path(value, chance.choice(paths)) for _ in range(4)]
+    return with_at(value, path, spoilt_item(chance, at_path(value, path), others))
 
 
 def nested(value, deep):
