@@ -1,9 +1,10 @@
 """Tests of what the tests share, so that a check that passes tells something."""
 
+import random
 import unittest
 
 from doc_examples import examples_of, wrong_examples
-from support import ANY, INTERFACE, Case, steady
+from support import ANY, INTERFACE, Case, at_path, paths_of, spoilt, steady, with_at
 import support
 
 
@@ -17,7 +18,19 @@ class Examples(Case):
         self.gives(wrong_examples("part_b.txt"), ([], 33))
 
     def test_part_c(self):
-        self.gives(wrong_examples("part_c.txt"), ([], 15))
+        self.gives(wrong_examples("part_c.txt"), ([], 25))
+
+    def test_part_d(self):
+        self.gives(wrong_examples("part_d.txt"), ([], 25))
+
+    def test_part_e(self):
+        self.gives(wrong_examples("part_e.txt"), ([], 29))
+
+    def test_part_f(self):
+        self.gives(wrong_examples("part_f.txt"), ([], 26))
+
+    def test_part_g(self):
+        self.gives(wrong_examples("part_g.txt"), ([], 17))
 
     def test_reading(self):
         text = ">>> a = 1\n>>> a\n1\n\nwords\n>>> b()\nraises Bad(3)\n"
@@ -59,6 +72,15 @@ class Steady(Case):
     def test_change_of_what_is_passed(self):
         with self.assertRaises(AssertionError):
             self.probe(lambda value: value.clear())([3])
+
+    def test_spoilt(self):
+        value = ((1, ("a", 2)), ((), None))
+        self.gives(paths_of(value), [(), (0,), (0, 0), (0, 1), (0, 1, 0), (0, 1, 1), (1,), (1, 0), (1, 1)])
+        self.gives([at_path(value, path) for path in ((), (0, 1, 1), (1, 0))], [value, 2, ()])
+        self.gives(with_at(value, (0, 1, 0), [3]), ((1, ([3], 2)), ((), None)))
+        chance = random.Random(1)
+        some = {repr(spoilt(chance, value)) for _ in range(300)}
+        self.gives((len(some) > 80, any("True" in text for text in some), any("[" in text for text in some)), (True, True, True))
 
     def test_any_values(self):
         self.gives(max(len(repr(value)) for value in ANY) > 19000, True)
