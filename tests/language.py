@@ -261,10 +261,26 @@ class File:
                 self.check_at_once(node)
             if isinstance(node, (ast.Set, ast.SetComp)) or name == "set":
                 self.check_set(node)
+            if isinstance(node, ast.Call):
+                self.check_stars(node)
             if isinstance(node, ast.GeneratorExp) and called(self.parents[node]) not in TAKERS | {"join"}:
                 self.fault("L7", node)
             if isinstance(node, ast.Constant) and isinstance(node.value, bytes):
                 self.fault("L7", node)
+
+    def check_stars(self, node):
+        for item in node.args + [word.value for word in node.keywords if word.arg is None]:
+            value = item.value if isinstance(item, ast.Starred) else None
+            if isinstance(value, (ast.Call, ast.Subscript, ast.GeneratorExp, ast.ListComp)):
+                self.fault("L7", node)
+
+    def check_classes(self):
+        for node in ast.walk(self.tree):
+            if isinstance(node, ast.ClassDef):
+                names = {item.name for item in node.body if isinstance(item, ast.FunctionDef)}
+                for part in ast.walk(node):
+                    if isinstance(part, ast.Attribute) and isinstance(part.ctx, ast.Store) and part.attr in names:
+                        self.fault("L18", part)
 
     def check_at_once(self, node):
         above = self.parents[node]
@@ -293,6 +309,7 @@ class File:
         self.check_names()
         self.check_statements()
         self.check_calls()
+        self.check_classes()
         return self.found
 
 

@@ -44,6 +44,8 @@ WRONG = [
     ("L24", "def one(two):\n    return set(two)\n"), ("L24", "def one(two):\n    return list({three for three in two})\n"),
     ("L25", "def one(two):\n    return two.format_map(two)\n"), ("L26", "def one(two):\n    two.items = 3\n"),
     ("L27", "ONE = '100%'\n"), ("L27", "ONE = 'a\\x41'\n"), ("L27", "ONE = '._'\n"), ("L27", "ONE = '__all__'\n"),
+    ("L7", "def one(*two):\n    return one(*one(3))\n"), ("L7", "def one(*two):\n    return one(*[three for three in two])\n"),
+    ("L18", "class One:\n    def __init__(self):\n        self.two = 1\n\n    def two(self):\n        return 2\n"),
     ("L27", "def one(two):\n    return 2 ** two\n"), ("L5", "class One(ValueError, metaclass=int):\n    pass\n"),
 ]
 

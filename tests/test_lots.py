@@ -10,6 +10,10 @@ lot_error = steady("lots", "lot_error")
 stands = steady("lots", "stands")
 lot_change = steady("lots", "lot_change")
 group_error = steady("lots", "group_error")
+first_group = steady("groups", "first_group")
+change_error = steady("stores", "change_error")
+changed = steady("stores", "changed")
+store_error = steady("stores", "store_error")
 
 DAY = ((("day", ("?d",)),), ())
 
@@ -149,6 +153,23 @@ class LotError(Case):
                 self.gives(stands(store, pool, lot), expected is None)
                 found[expected and expected[:1]] = True
         self.gives(len(found), 6)
+
+    def test_change_of_a_lot_that_stands(self):
+        """(b) of [A2]: behind it the store keeps its keys, and there is such a lot exactly if there is a group."""
+        chance, some = random.Random(18), 0
+        for _ in range(150):
+            store, pool = drawn_store(chance), drawn_pool(chance, chance.randint(1, 5), "ab")
+            lots = Lots(store, pool)
+            if len(lots.members) > 14:
+                continue
+            standing = lots.all_standing()
+            for lot in standing[:20]:
+                change = lot_change(pool, lot)
+                some += change != ((), ())
+                self.gives(change_error(store, change), None)
+                self.gives(store_error(changed(store, change)), None)
+            self.gives(first_group(store, pool) is None, not standing)
+        self.gives(some > 50, True)
 
     def test_spoilt(self):
         chance = random.Random(9)

@@ -220,6 +220,28 @@ class Struck(Case):
         self.gives(len(lengths) > 6, True)
 
 
+class WhatHolds(Case):
+    def test_any_order(self):
+        """(c) of [A2]: the same are left whatever the order; none that is struck is in a lot that stands."""
+        chance, some = random.Random(6), 0
+        for _ in range(200):
+            store, pool = drawn_store(chance), drawn_pool(chance, chance.randint(1, 5), "abc")
+            lots = Lots(store, pool)
+            if len(lots.members) > 16:
+                continue
+            left = list(lots.members)
+            while True:
+                wrong = [member for member in left if lots.reasons(left, member)]
+                if not wrong:
+                    break
+                left.remove(chance.choice(wrong))
+            self.gives(struck(store, pool)[0], tuple(left))
+            for lot in lots.all_standing():
+                some += len(lot) < len(left) < len(lots.members)
+                self.gives([member for member in lot if member not in left], [])
+        self.gives(some > 20, True)
+
+
 class LinesHold(Case):
     store = days(2, ("seat", (1, "bo")))
     pool = ((0, wish(wants=(("no", ()), ("a", ()), ("no", ())))), (1, wish(says=(("a", ()),), writes=(("in", "seat", (1, "anna")),))))

@@ -1,9 +1,11 @@
 """Tests of what the tests share, so that a check that passes tells something."""
 
+import doctest
+import os
 import random
 import unittest
 
-from doc_examples import examples_of, wrong_examples
+from doc_examples import FOLDER, examples_of, wrong_examples
 from support import ANY, INTERFACE, Case, at_path, paths_of, spoilt, steady, with_at
 import support
 
@@ -31,6 +33,11 @@ class Examples(Case):
 
     def test_part_g(self):
         self.gives(wrong_examples("part_g.txt"), ([], 17))
+
+    def test_readme(self):
+        path = os.path.join(os.path.dirname(FOLDER), "..", "README.md")
+        found = doctest.testfile(path, module_relative=False)
+        self.gives((found.failed, found.attempted > 10), (0, True))
 
     def test_reading(self):
         text = ">>> a = 1\n>>> a\n1\n\nwords\n>>> b()\nraises Bad(3)\n"
