@@ -98,9 +98,10 @@ class Search:
         return part if part & first else 0
 
     def is_group(self, family):
-        """Whether a family without clashes is a group with a member of each of the musts."""
-        if self.standing(family) != family or not all([must & family for must in self.musts]):
+        """Whether a family, some part of which stands, is a group with a member of each of the musts."""
+        if not all([must & family for must in self.musts]):
             return False
+        # Whoever is not in the part that stands could go, too.
         others = places_of(family & ~self.musts[0])
         return not any([self.standing(family ^ (1 << at)) for at in others])
 

@@ -55,10 +55,7 @@ def lot_error(store, pool, value):
     place = member_error(store, pool, value)
     if place is not None:
         return ("member", place)
-    error = standing_error(Crowd(store, pool, value))
-    if error is None and not value:
-        return "empty"
-    return error
+    return standing_error(Crowd(store, pool, value)) if value else "empty"
 
 
 def stands(store, pool, lot):

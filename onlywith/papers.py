@@ -95,7 +95,7 @@ class Way:
         self.broken = False
 
     def is_true(self, at, reason):
-        """Whether any tuple is a reason that is true of the member at a place."""
+        """Whether any value is a reason that is true of the member at a place."""
         if not is_tuple(reason, 2) or reason[0] != "clash":
             return is_reason(self.crowd, self.left, at, reason)
         other = reason[1]

@@ -73,14 +73,11 @@ def struck(store, pool):
 
 
 def line_place(crowd, left, line):
-    """The place of the member left that any value, as a line, strikes; None if it is no such line.
-
-    Whether its reason is true is not asked, only that it is a tuple.
-    """
+    """The place of the member left that any value, as a line, strikes for a reason, whatever this is; or None."""
     if not is_tuple(line, 3):
         return None
-    number, filling, reason = line
-    if not is_integer(number) or not is_row(filling) or not isinstance(reason, tuple):
+    number, filling, _ = line
+    if not is_integer(number) or not is_row(filling):
         return None
     at = crowd.places.get((number, filling))
     if at is None or not left & (1 << at):
@@ -89,7 +86,7 @@ def line_place(crowd, left, line):
 
 
 def is_reason(crowd, left, at, value):
-    """Whether any tuple is a reason ([D2]) that is true of the member at a place, with left."""
+    """Whether any value is a reason ([D2]) that is true of the member at a place, with left."""
     if value == ("own",):
         return crowd.owns[at]
     return is_tuple(value, 2) and is_integer(value[1]) and crowd.is_true(left, at, value[0], value[1])

@@ -89,6 +89,10 @@ class LotError(Case):
         self.gives(self.error(((0, (0,)), (1, (1,)), (2, (0,))), pool), ("clash", 0, 2))
         self.gives(self.error(((0, (0,)), (1, (1,)), (2, (0,)), (3, (0,))), pool), ("want", 3, 0))
 
+    def test_no_clash_without_a_key(self):
+        putting = wish(writes=(("in", "day", ("?d",)), ("in", "seat", ("?d", 1))))
+        self.gives(self.error(((0, (0,)), (1, (1,)), (2, (0,))), ((0, putting), (1, putting), (2, putting))), None)
+
     def test_clash_with_a_way(self):
         store = days(2, ("seat", (1, "bo")))
         pool = ((0, wish(writes=(("in", "seat", (1, "bo")),))), (1, wish(writes=(("out", "seat", (1, "bo")),))),
