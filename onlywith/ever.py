@@ -51,14 +51,14 @@ class Strikes:
         return None
 
     def strike(self, at):
-        """Strikes a case; returns the cases left that want what no case left says now."""
+        """Strikes a case; returns the cases, also struck ones, that want what no case left says now."""
         self.left[at] = False
         freed = []
         for told in {saying: True for saying in self.cases[at].says}:
             self.counts[told] -= 1
             if not self.counts[told]:
                 freed.extend(self.wanters.get(told, []))
-        return [other for other in freed if self.left[other]]
+        return freed
 
     def lines(self):
         """Strikes the first case that can be struck, again and again; returns the lines ([G4])."""
@@ -192,12 +192,11 @@ def is_copy(templates, facts, value):
 
 def are_made(templates, copies):
     """Whether each want of each copy is a saying of another one."""
-    # {(word, row): [the first two numbers of copies that say it]}
+    # {(word, row): [numbers of the copies that say it]}
     sayers = {}
     for number, (place, filling) in enumerate(copies):
         for told in {saying: True for saying in said(templates[place], filling)}:
-            if len(sayers.setdefault(told, [])) < 2:
-                sayers[told].append(number)
+            sayers.setdefault(told, []).append(number)
     for number, (place, filling) in enumerate(copies):
         for want in wanted(templates[place], filling):
             if sayers.get(want, []) in ([], [number]):

@@ -55,7 +55,8 @@ class Writers:
         """The members with a write that does not go together with one of a member's writes."""
         found = 0
         for sign, fact in items:
-            found |= (self.bringers if sign == "out" else self.takers).get(fact, 0)
+            opposed = self.bringers if sign == "out" else self.takers
+            found |= opposed.get(fact, 0)
             key = key_in(self.columns, fact)
             if sign == "in" and key is not None:
                 for other in self.alike[key]:

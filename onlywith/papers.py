@@ -82,15 +82,16 @@ def is_same(value, told):
 
 
 class Way:
-    """How far one has come along a paper: what is left, settled and left out there ([E7])."""
+    """How far one has come along a paper: what is left and what is settled there ([E7]).
 
-    def __init__(self, crowd, left, settled, without):
+    A number that is left out has no member left any more, and nothing else is asked of it.
+    """
+
+    def __init__(self, crowd, left, settled):
         self.crowd = crowd
         self.left = left
         # {number: place of its settled member}
         self.settled = settled
-        # {number that is left out: True}
-        self.without = without
         # Whether a settled member was struck.
         self.broken = False
 
@@ -126,23 +127,20 @@ class Way:
 
     def ends(self, number, branches, without):
         """Whether a number and any values are an end of a node that goes on."""
-        if number in self.settled or number in self.without:
-            return False
         family = self.crowd.numbered.get(number, 0) & self.left
         places = places_of(family)
-        if not family or not is_tuple(branches, len(places)):
+        if not family or number in self.settled or not is_tuple(branches, len(places)):
             return False
         for at, branch in zip(places, branches):
             if not is_tuple(branch, 2) or not is_same(branch[0], self.crowd.members[at][1]):
                 return False
-            settled = {**self.settled, number: at}
-            if not self.further((self.left & ~family) | (1 << at), settled, self.without).holds(branch[1]):
+            if not self.further((self.left & ~family) | (1 << at), {**self.settled, number: at}).holds(branch[1]):
                 return False
-        return self.further(self.left & ~family, self.settled, {**self.without, number: True}).holds(without)
+        return self.further(self.left & ~family, self.settled).holds(without)
 
-    def further(self, left, settled, without):
-        """A way that goes on from here with others left, settled and left out."""
-        way = Way(self.crowd, left, settled, without)
+    def further(self, left, settled):
+        """A way that goes on from here with others left and settled."""
+        way = Way(self.crowd, left, settled)
         way.broken = self.broken
         return way
 
@@ -152,4 +150,4 @@ def no_holds(store, pool, value):
     crowd = pool_crowd(store, pool)
     if not is_tuple(value, 2) or not is_same(value[0], lists_of(crowd)):
         return False
-    return Way(crowd, crowd.everyone, {}, {}).holds(value[1])
+    return Way(crowd, crowd.everyone, {}).holds(value[1])

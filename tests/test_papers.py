@@ -205,6 +205,7 @@ class NoHolds(Case):
         # A number that is settled, and one that is left out.
         again = ((), (1, (((0,), SETTLED),), ((), None)))
         self.gives(self.node(((), (1, (((0,), again),), WITHOUT))), False)
+        self.gives(self.node(((), (1, (((0,), ((), (1, (((0,), SETTLED),), WITHOUT))),), WITHOUT))), False)
         self.gives(self.node(((), (1, (((0,), SETTLED),), ((), (1, (), ((), None)))))), False)
         self.gives(self.node(((), (1, (((0,), SETTLED),), ((), (1, (((0,), SETTLED),), WITHOUT))))), False)
 
@@ -241,6 +242,14 @@ class NoHolds(Case):
         rest = (((1, (0,), ("want", 0)), (2, (0,), ("want", 0))), None)
         self.gives(self.holds((lists, ((), (0, (((0,), branch),), rest))), pool=pool), True)
         self.gives(self.holds((lists, ((), (0, (((0,), ((),) + branch[1:]),), rest))), pool=pool), False)
+
+    def test_lines_behind_a_settled_one_that_was_struck(self):
+        pool = pool_of([wish([], say("no")), JO, KIM, wish([], say("never"))])
+        lists = tuple((number, ((0,),)) for number in range(4))
+        first, last = (0, (0,), ("want", 0)), (3, (0,), ("want", 0))
+        for lines in ((first,), (first, last), (last, first)):
+            self.gives(self.holds((lists, ((), (0, (((0,), (lines, None)),), ((last,), PAPER[1][1])))), pool=pool), True)
+        self.gives(self.holds((lists, ((), (0, (((0,), ((last,), None)),), ((last,), PAPER[1][1])))), pool=pool), False)
 
     def test_branches(self):
         store = days(2)

@@ -219,6 +219,15 @@ class TameFirst(Case):
         pool = ((0, wish([], [("b", ("?y",))], body=(WAY[0], (("<", 0, "?x"),)))), (1, wish([("b", ("?x",))])))
         self.gives(tame_first(store, pool), ((0, (3, 20)), (1, (20, "a"))))
 
+    def test_dead_ends_that_show_late(self):
+        # On the day 0 there are two ways for three that are unlike; no two of these alone show it.
+        body = ((("way", ("?a", "?b")), ("way", ("?a", "?c")), ("way", ("?a", "?d"))), (("!=", "?b", "?c"), ("!=", "?b", "?d"), ("!=", "?c", "?d")))
+        store = ways([(0, 1), (0, 2), (1, 1), (1, 2), (1, 3)])
+        self.gives(tame_first(store, ((0, wish(body=body)),)), ((0, (1, 1, 2, 3)),))
+        self.gives(answers(store, body)[0], (1, 1, 2, 3))
+        few = ways([(0, 1), (0, 2), (1, 1), (1, 2)])
+        self.gives((tame_first(few, ((0, wish(body=body)),)), tame_paper(few, ((0, wish(body=body)),), 0)), (None, ("ends", 3)))
+
     def test_no_limits(self):
         pool = tuple((number, wish([(WORDS[number], ("?d",))], [(WORDS[(number + 1) % 40], ("?d",))], body=DAY)) for number in range(40))
         self.gives(tame_first(days(400), pool), tuple((number, (0,)) for number in range(40)))
