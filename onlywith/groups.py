@@ -53,8 +53,8 @@ class Search:
             left = self.crowd.kept(left)
             if not settled:
                 return (left, 0)
-            left = self.reached(left, settled & self.musts[0])
-            if settled & ~left or not self.are_needed(left, settled):
+            left = self.needed(self.reached(left, settled & self.musts[0]), settled)
+            if settled & ~left:
                 return (0, 0)
             standing = self.standing(settled)
             if standing:
@@ -80,13 +80,27 @@ class Search:
             further = needed & left & ~found
         return found
 
-    def are_needed(self, left, settled):
-        """Whether each settled member, but that of the least number, may be the only one that meets some need."""
+    def uses_of(self, left, settled, at):
+        """The uses of a settled member of which it may be the only one that meets the need.
+
+        Without such a use the others of the group would stand alone, so for each settled member, but that
+        of the least number, the need of one of these uses is one of the group's.
+        """
+        member = 1 << at
+        return [use for use in self.uses[at] if left & (1 << use[0]) and use[1] & settled == member]
+
+    def needed(self, left, settled):
+        """The members left that may be in a group in which each settled one is needed; none if none may."""
         for at in places_of(settled & ~self.musts[0]):
-            uses = [need for who, need in self.uses[at] if left & (1 << who) and need & settled == 1 << at]
+            uses = self.uses_of(left, settled, at)
             if not uses:
-                return False
-        return True
+                return 0
+            # Whoever else meets all of these needs would leave it without a use.
+            common = left & ~(1 << at)
+            for _, need in uses:
+                common &= need
+            left &= ~common
+        return left
 
     def standing(self, family):
         """The greatest part that stands of a family without clashes; 0 if it lacks the least number."""
@@ -111,6 +125,11 @@ class Search:
             # All else is told from the member of the least number on.
             return self.musts[0] & left
         needs = [need for at in places_of(settled) for need in self.crowd.needs[at]]
+        for at in places_of(settled & ~self.musts[0]):
+            users = 0
+            for who, _ in self.uses_of(left, settled, at):
+                users |= 1 << who
+            needs.append(users)
         unmet = [family & left for family in self.musts + needs if not family & settled]
         return min(unmet, key=lambda family: len(places_of(family)))
 
