@@ -224,8 +224,26 @@ class Places(Case):
         self.fails("if a(" + "1, " * 6000, 21)
         self.fails("if a(?" + "a" * 19000, 9)
 
+    def at_its_place(self, value):
+        """BadText tells of a string a beginning that can go on, and no longer one can; or the string is a text."""
+        place = place_of(value)
+        self.gives(is_text(value), place is None)
+        if place is not None:
+            self.assertTrue(can_begin(value[:place]), (value, place))
+            self.assertTrue(place == len(value) or not can_begin(value[:place + 1]), (value, place))
+        return place
+
+    def test_at_each_place(self):
+        text = "if ab(?a, -10), ?a != if say do(?a), b() want c(0) do +d(?a), -e(x)"
+        self.gives(place_of(text), None)
+        for at in range(len(text)):
+            self.gives(self.at_its_place(text[:at]) == at, not is_text(text[:at]))
+            self.at_its_place(text[:at] + text[at + 1:])
+            for sign in "a0? (),":
+                self.at_its_place(text[:at] + sign + text[at:])
+                self.at_its_place(text[:at] + sign + text[at + 1:])
+
     def test_one_sign_changed(self):
-        """Each place tells a beginning that can go on, and no longer one can."""
         chance = random.Random(11)
         some = 0
         for _ in range(400):
@@ -234,14 +252,7 @@ class Places(Case):
             sign = chance.choice("abifsaywntdo?(), =!<+-0129A.\n")
             value = chance.choice([text, text[:at], text[:at] + sign + text[at:], text[:at] + sign + text[at + 1:],
                                    text[:at] + text[at + 1:], text + sign])
-            place = place_of(value)
-            if place is None:
-                self.gives(is_text(value), True)
-                continue
-            some += 1
-            self.gives(is_text(value), False)
-            self.assertTrue(can_begin(value[:place]), (value, place))
-            self.assertTrue(place == len(value) or not can_begin(value[:place + 1]), (value, place))
+            some += self.at_its_place(value) is not None
         self.gives(some > 150, True)
 
 
