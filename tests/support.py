@@ -51,6 +51,13 @@ INTERFACE = {
         "family": ("templates",), "can_ever": ("templates", "place"), "ever_lot": ("templates", "place"),
         "ever_holds": ("templates", "place", "value"),
     },
+    "copies": {"least_copies": ("templates", "place")},
+    "dealings": {"refusal": ("history", "dealing"), "closed": ("history", "dealing")},
+    "closings": {"book_error": ("store", "book"), "store_behind": ("store", "book")},
+    "kept": {
+        "touched": ("schema", "pool", "change"), "untouched": ("store", "pool", "paper", "change"),
+        "without_wish": ("paper", "number"), "with_change": ("store", "pool", "paper", "change"),
+    },
 }
 
 

@@ -32,7 +32,13 @@ class Examples(Case):
         self.gives(wrong_examples("part_f.txt"), ([], 26))
 
     def test_part_g(self):
-        self.gives(wrong_examples("part_g.txt"), ([], 17))
+        self.gives(wrong_examples("part_g.txt"), ([], 22))
+
+    def test_part_h(self):
+        self.gives(wrong_examples("part_h.txt"), ([], 25))
+
+    def test_part_i(self):
+        self.gives(wrong_examples("part_i.txt"), ([], 17))
 
     def test_readme(self):
         path = os.path.join(os.path.dirname(FOLDER), "..", "README.md")
