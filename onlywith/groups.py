@@ -189,4 +189,4 @@ def first_group(store, pool):
     """The first group of the pool on a store; None if there is none ([E5])."""
     crowd = pool_crowd(store, pool)
     group = first_family(crowd)
-    return crowd.told(group) if group else None
+    return crowd.listed(group) if group else None

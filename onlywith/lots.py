@@ -96,4 +96,4 @@ def group_error(store, pool, value):
         raise TooMany(MAX_POOL)
     crowd = Crowd(store, pool, value)
     part = first_part(crowd, 1, 0)
-    return None if part is None else ("part", crowd.told(part))
+    return None if part is None else ("part", crowd.listed(part))

@@ -122,7 +122,7 @@ class Crowd:
                     family ^= 1 << at
         return family
 
-    def told(self, family):
+    def listed(self, family):
         """The members of a family, ascending."""
         return tuple([self.members[at] for at in places_of(family)])
 

@@ -13,7 +13,7 @@ from onlywith.terms import is_integer, is_tuple
 def lists_of(crowd):
     """The lists of a paper: all fillings of each wish of the pool."""
     return tuple([
-        (number, tuple([filling for _, filling in crowd.told(family)]))
+        (number, tuple([filling for _, filling in crowd.listed(family)]))
         for number, family in crowd.numbered.items()
     ])
 
@@ -70,7 +70,7 @@ def no_paper(store, pool):
     crowd = pool_crowd(store, pool)
     group = first_family(crowd)
     if group:
-        raise HasGroup(crowd.told(group))
+        raise HasGroup(crowd.listed(group))
     return (lists_of(crowd), node_of(crowd, crowd.everyone, 0))
 
 

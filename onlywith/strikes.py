@@ -69,7 +69,7 @@ def struck(store, pool):
         lines.append(crowd.members[at] + (reason,))
         left ^= 1 << at
         strike = first_strike(crowd, left)
-    return (crowd.told(left), tuple(lines))
+    return (crowd.listed(left), tuple(lines))
 
 
 def line_place(crowd, left, line):

@@ -68,7 +68,7 @@ class Together:
         # {variable: its term} for those that stand in an equation.
         self.terms = terms
 
-    def told(self, pattern, number):
+    def replaced(self, pattern, number):
         """What becomes of a pattern of the wish of a number."""
         return tuple([self.terms.get(term, term) for term in marked(pattern, number)])
 
@@ -76,13 +76,13 @@ class Together:
         """What joined returns."""
         patterns, tests = [], []
         for number, (body, _, _, _) in self.wishes:
-            patterns.extend([(name, self.told(pattern, number)) for name, pattern in body[0]])
-            tests.extend([(sign,) + self.told((one, other), number) for sign, one, other in body[1]])
+            patterns.extend([(name, self.replaced(pattern, number)) for name, pattern in body[0]])
+            tests.extend([(sign,) + self.replaced((one, other), number) for sign, one, other in body[1]])
         return (tuple(patterns), tuple(tests))
 
     def least_lot(self, store):
         """The lot of all these wishes that stands on a store and has the least fillings; or None."""
-        rows = [(number, self.told(question_variables(wish[0]), number)) for number, wish in self.wishes]
+        rows = [(number, self.replaced(question_variables(wish[0]), number)) for number, wish in self.wishes]
         variables = list({term: True for _, row in rows for term in row if is_free(term)})
         values = least_answer(store[1], self.question(), variables)
         if values is None:

@@ -66,7 +66,7 @@ class Reader:
             raise BadText(begin)
         return self.text[begin:self.at]
 
-    def number(self):
+    def whole(self):
         """Reads a number."""
         begin = self.at
         if self.comes("-"):
@@ -105,7 +105,7 @@ class Reader:
             return "?" + self.letters(MAX_LETTERS)
         if self.comes(LETTERS):
             return self.letters(MAX_WORD)
-        return self.number()
+        return self.whole()
 
     def pattern(self, least):
         """Reads the terms of a pattern, and what is around them; least is 0 or 1."""

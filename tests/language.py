@@ -202,7 +202,8 @@ class File:
                 self.fault("L12", node)
             if node in methods:
                 continue
-            if name in dir(builtins) or name in NO_NAMES:
+            # A prompt leaves a _ among the builtins.
+            if name in dir(builtins) and name != "_" or name in NO_NAMES:
                 self.fault("L15", node)
             if name in barred and self.parents.get(node) is not self.tree:
                 self.fault("L15", node)
@@ -212,7 +213,7 @@ class File:
             if isinstance(node, ast.Name) and isinstance(node.ctx, ast.Load):
                 if node.id == "_":
                     self.fault("L12", node)
-                if hasattr(builtins, node.id) and node.id not in BUILTINS:
+                if hasattr(builtins, node.id) and node.id not in BUILTINS | {"_"}:
                     self.fault("L8", node)
 
     def check_statements(self):
@@ -253,7 +254,7 @@ class File:
                 self.fault("L25", node)
             if isinstance(node, ast.Attribute) and isinstance(node.ctx, ast.Store) and node.attr in NO_ATTRIBUTES:
                 self.fault("L26", node)
-            if isinstance(node, ast.Attribute) and isinstance(node.ctx, ast.Load):
+            if isinstance(node, ast.Attribute) and isinstance(node.ctx, ast.Load) and not self.is_class_name(node):
                 if node.attr not in METHODS | own | self.package.attributes:
                     self.fault("L18", node)
             name = called(node)
@@ -268,13 +269,36 @@ class File:
             if isinstance(node, ast.Constant) and isinstance(node.value, bytes):
                 self.fault("L7", node)
 
+    def is_class_name(self, node):
+        """Whether a node is one of the two attributes of a .__class__.__name__ behind a name or an attribute (L8)."""
+        upper = node if node.attr == "__name__" else self.parents[node]
+        lower = getattr(upper, "value", None)
+        return (getattr(upper, "attr", None), getattr(lower, "attr", None)) == ("__name__", "__class__") and node in (upper, lower) \
+            and isinstance(lower.value, (ast.Name, ast.Attribute))
+
     def check_stars(self, node):
         for item in node.args + [word.value for word in node.keywords if word.arg is None]:
             value = item.value if isinstance(item, ast.Starred) else None
             if isinstance(value, (ast.Call, ast.Subscript, ast.GeneratorExp, ast.ListComp)):
                 self.fault("L7", node)
 
+    def check_properties(self):
+        """A property has a name of its own in the whole package, no parameters, no setter, and changes nothing."""
+        for node in self.methods():
+            if node.decorator_list and [getattr(one, "id", None) for one in node.decorator_list] != ["property"]:
+                self.fault("L5", node)
+            if not node.decorator_list and node.name in self.package.properties:
+                self.fault("L5", node)
+            if node.decorator_list:
+                stores = [part for part in ast.walk(node) if isinstance(part, (ast.Attribute, ast.Subscript)) and isinstance(part.ctx, ast.Store)]
+                if stores or len(node.args.args) != 1 or node.name in METHODS:
+                    self.fault("L5", node)
+        for node in ast.walk(self.tree):
+            if isinstance(node, ast.Attribute) and isinstance(node.ctx, (ast.Store, ast.Del)) and node.attr in self.package.properties:
+                self.fault("L5", node)
+
     def check_classes(self):
+        self.check_properties()
         for node in ast.walk(self.tree):
             if isinstance(node, ast.ClassDef):
                 names = {item.name for item in node.body if isinstance(item, ast.FunctionDef)}
@@ -318,6 +342,7 @@ class Package:
 
     def __init__(self, files):
         self.defined, self.errors, self.methods, self.attributes, self.links = {}, set(ERRORS), set(), set(), {}
+        self.properties = set()
         for name, text in files.items():
             tree = ast.parse(text)
             module = PACKAGE + "." + name[:-3]
@@ -335,6 +360,7 @@ class Package:
         if any(getattr(base, "id", None) in self.errors for base in node.bases):
             self.errors.add(node.name)
         self.methods |= {item.name for item in node.body if isinstance(item, ast.FunctionDef)}
+        self.properties |= {item.name for item in node.body if isinstance(item, ast.FunctionDef) and item.decorator_list}
         for part in ast.walk(node):
             if isinstance(part, ast.Attribute) and isinstance(part.ctx, ast.Store):
                 self.attributes.add(part.attr)

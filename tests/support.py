@@ -58,6 +58,27 @@ INTERFACE = {
         "touched": ("schema", "pool", "change"), "untouched": ("store", "pool", "paper", "change"),
         "without_wish": ("paper", "number"), "with_change": ("store", "pool", "paper", "change"),
     },
+    "logs": {"entry_line": ("entry",), "read_line": ("value",), "log_text": ("entries",), "read_log": ("text",)},
+    "ledgers": {"come_up": ("picture", "text")},
+}
+
+# {class: (module, names of the arguments it is made with, {method: names of its arguments}, properties)}
+CLASSES = {
+    "Fair": (
+        "fairs", ("store",),
+        {"come": ("wish", "till"), "back": ("number",), "plain": ("dealing",), "paper": (), "at": ("version",), "copy": (),
+         "attempt": ("work",)},
+        ("store", "version", "pool", "tills", "events", "asked"),
+    ),
+    "Ledger": (
+        "ledgers", ("store",),
+        {"do": ("record", "source"), "force": (), "answers": (), "heard": ("door",), "text": (), "fair": (), "picture": ()}, (),
+    ),
+    "House": ("doors", ("ledger",), {"hear": ("value",)}, ("ledger",)),
+    "Door": (
+        "doors", ("number",), {"send": ("record",), "letters": (), "ask": (), "hear": ("value",)}, ("number", "replies", "told"),
+    ),
+    "Shell": ("shells", (), {"say": ("line",)}, ()),
 }
 
 
@@ -97,6 +118,76 @@ def steady(module, name):
         return first[1]
 
     return asked
+
+
+# How many of the first things that a pair returned are looked at again and again.
+MOST_KEPT = 40
+
+
+class Pair:
+    """Two objects of a class of the program, made and called alike: the one by place, the other one by name.
+
+    What both tell has to be the same, what is passed has to stay as it is, and so has what was returned ([A3]).
+    """
+
+    def __init__(self, objects):
+        self.objects = objects
+        self.kind = objects[0].__class__.__name__
+        self.kept = []
+
+    def __getattr__(self, name):
+        _, _, methods, properties = CLASSES[self.kind]
+        if name in properties:
+            return self.both(name, [lambda: getattr(self.objects[0], name), lambda: getattr(self.objects[1], name)])
+        names = methods[name]
+
+        def called(*values):
+            by_place, by_name = told_apart(values)
+            before = text_of(values)
+            result = self.both(name, [
+                lambda: getattr(self.objects[0], name)(*by_place),
+                lambda: getattr(self.objects[1], name)(**dict(zip(names, by_name))),
+            ])
+            if text_of(values) != before:
+                raise AssertionError(f"{name} changed what it was passed: {before}")
+            return result
+
+        return called
+
+    def both(self, name, works):
+        """What both works tell or raise."""
+        results = [outcome(work) for work in works]
+        if results[0][0] == "returns" == results[1][0] and results[0][1].__class__.__name__ in CLASSES:
+            return Pair([results[0][1], results[1][1]])
+        text = told(results[0])
+        if text != told(results[1]):
+            raise AssertionError(f"{self.kind}.{name}: {text}, and {told(results[1])}")
+        if results[0][0] == "raises":
+            raise results[0][3]
+        if len(self.kept) < MOST_KEPT:
+            self.kept.append((results[0][1], repr(results[0][1])))
+        for value, before in self.kept:
+            if repr(value) != before:
+                raise AssertionError(f"{self.kind}.{name}: what was returned changed later: {before}, and {value!r}")
+        return results[0][1]
+
+
+def told_apart(values):
+    """The values for the one and for the other object of a pair."""
+    return [[value.objects[at] if isinstance(value, Pair) else value for value in values] for at in range(2)]
+
+
+def text_of(values):
+    """Values as a text; pairs and functions are left out."""
+    return repr([value for value in values if not isinstance(value, Pair) and not callable(value)])
+
+
+def made(kind, *values):
+    """A pair of a class of the program."""
+    module, names, _, _ = CLASSES[kind]
+    maker = getattr(importlib.import_module("onlywith." + module), kind)
+    by_place, by_name = told_apart(values)
+    return Pair([maker(*by_place), maker(**dict(zip(names, by_name)))])
 
 
 class Case(unittest.TestCase):

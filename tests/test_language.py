@@ -6,7 +6,7 @@ import os
 import unittest
 
 from language import faults
-from support import INTERFACE, Case
+from support import CLASSES, INTERFACE, Case
 
 FOLDER = os.path.join(os.path.dirname(os.path.dirname(os.path.abspath(__file__))), "onlywith")
 
@@ -46,6 +46,12 @@ WRONG = [
     ("L27", "ONE = '100%'\n"), ("L27", "ONE = 'a\\x41'\n"), ("L27", "ONE = '._'\n"), ("L27", "ONE = '__all__'\n"),
     ("L7", "def one(*two):\n    return one(*one(3))\n"), ("L7", "def one(*two):\n    return one(*[three for three in two])\n"),
     ("L18", "class One:\n    def __init__(self):\n        self.two = 1\n\n    def two(self):\n        return 2\n"),
+    ("L5", "class One:\n    @property\n    def two(self):\n        self.three = 3\n        return 3\n"),
+    ("L5", "class One:\n    @property\n    def two(self):\n        return 3\n\n\ndef three(one):\n    one.two = 3\n"),
+    ("L5", "class One:\n    @property\n    def two(self):\n        return 3\n\n\nclass Two:\n    def two(self):\n        return 3\n"),
+    ("L5", "class One:\n    @property\n    def items(self):\n        return 3\n"), ("L5", "class One:\n    @staticmethod\n    def two():\n        return 3\n"),
+    ("L18", "def one(two):\n    return two.__name__\n"), ("L18", "def one(two):\n    return two.__class__\n"),
+    ("L18", "def one(two):\n    return two().__class__.__name__\n"),
     ("L27", "def one(two):\n    return 2 ** two\n"), ("L5", "class One(ValueError, metaclass=int):\n    pass\n"),
 ]
 
@@ -90,6 +96,21 @@ class Interface(Case):
                 function = getattr(importlib.import_module("onlywith." + module), name)
                 self.gives(tuple(inspect.signature(function).parameters), names)
                 self.gives((inspect.isfunction(function), function.__module__), (True, "onlywith." + module))
+
+    def test_classes(self):
+        for name, (module, made_with, methods, properties) in CLASSES.items():
+            kind = getattr(importlib.import_module("onlywith." + module), name)
+            self.gives((inspect.isclass(kind), kind.__module__), (True, "onlywith." + module))
+            self.gives(tuple(inspect.signature(kind).parameters), made_with)
+            for method, names in methods.items():
+                self.gives((inspect.isfunction(vars(kind)[method]), tuple(inspect.signature(vars(kind)[method]).parameters)), (True, ("self",) + names))
+            for each in properties:
+                self.gives((isinstance(vars(kind)[each], property), vars(kind)[each].fset), (True, None))
+
+    def test_defaults(self):
+        for name, method, parameter in (("Fair", "come", "till"), ("Ledger", "do", "source")):
+            function = vars(getattr(importlib.import_module("onlywith." + CLASSES[name][0]), name))[method]
+            self.gives(inspect.signature(function).parameters[parameter].default, None)
 
 
 if __name__ == "__main__":

@@ -38,7 +38,16 @@ class Examples(Case):
         self.gives(wrong_examples("part_h.txt"), ([], 25))
 
     def test_part_i(self):
-        self.gives(wrong_examples("part_i.txt"), ([], 17))
+        self.gives(wrong_examples("part_i.txt"), ([], 29))
+
+    def test_part_j(self):
+        self.gives(wrong_examples("part_j.txt"), ([], 26))
+
+    def test_part_k(self):
+        self.gives(wrong_examples("part_k.txt"), ([], 13))
+
+    def test_part_l(self):
+        self.gives(wrong_examples("part_l.txt"), ([], 7))
 
     def test_readme(self):
         path = os.path.join(os.path.dirname(FOLDER), "..", "README.md")
