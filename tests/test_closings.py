@@ -3,6 +3,7 @@
 import random
 import unittest
 
+from faircalls import DAY, NOTHING, day, wish
 from hardpools import days, ring
 from pools import SCHEMA, drawn_pool, drawn_store
 from support import ANY, Case, spoilt, steady
@@ -16,18 +17,8 @@ group_error = steady("lots", "group_error")
 lot_change = steady("lots", "lot_change")
 first_group = steady("groups", "first_group")
 
-DAYS = ((("day", ("?d",)),), ())
 SEATS = ((("seat", ("?s", "?w")),), ())
-NOTHING = ((), ())
 START = (SCHEMA, (("day", (1,)), ("day", (2,)), ("seat", (1, "a"))))
-
-
-def day(*numbers):
-    return tuple(("day", (number,)) for number in numbers)
-
-
-def wish(says=(), wants=(), writes=(), body=DAYS):
-    return (body, tuple(says), tuple(wants), tuple(writes))
 
 
 def plain(begin, reads=(), change=NOTHING):
@@ -75,18 +66,18 @@ class Books(Case):
 
     def test_plain_and_group(self):
         group = ((2, (2,)), (5, (2,)))
-        for book in ((("group", PAIR, group),), (plain(0, [DAYS]), ("group", PAIR, group), plain(1, [SEATS]), plain(3, [DAYS]))):
+        for book in ((("group", PAIR, group),), (plain(0, [DAY]), ("group", PAIR, group), plain(1, [SEATS]), plain(3, [DAY]))):
             self.check(START, book, None)
         self.gives(store_behind(START, (("group", PAIR, group),))[1], day(1) + (("seat", (1, "a")), ("tag", (2, "x"))))
 
     def test_wrong_at_each_place(self):
         wrong = (
-            (plain(-1), ("begin",)), (plain(9), ("begin",)), (plain(0, [DAYS]), ("read", 0, (3,))),
+            (plain(-1), ("begin",)), (plain(9), ("begin",)), (plain(0, [DAY]), ("read", 0, (3,))),
             (plain(1, (), (day(1), day(1))), ("change", ("both", ("day", (1,))))),
             (("group", PAIR, ((2, (1,)),)), ("want", 0, 0)), (("group", PAIR, ((2, (7,)), (5, (7,)))), ("member", 0)),
             (("group", PAIR, None), "form"), (("group", PAIR, ()), "empty"), (("group", (), ((2, (1,)),)), ("member", 0)),
         )
-        others = (plain(0, (), ((), day(3))), plain(1, [DAYS]), ("group", PAIR, ((2, (3,)), (5, (3,)))), plain(1, [SEATS]))
+        others = (plain(0, (), ((), day(3))), plain(1, [DAY]), ("group", PAIR, ((2, (3,)), (5, (3,)))), plain(1, [SEATS]))
         for closing, error in wrong:
             for place in range(1, len(others) + 1):
                 if error == ("read", 0, (3,)) and place > 2:
@@ -98,7 +89,7 @@ class Books(Case):
 
     def test_first_closing(self):
         self.check(START, (plain(1),), (0, ("begin",)))
-        self.check(START, (plain(0, [DAYS], (day(1), ())), plain(0, [DAYS])), (1, ("read", 0, (1,))))
+        self.check(START, (plain(0, [DAY], (day(1), ())), plain(0, [DAY])), (1, ("read", 0, (1,))))
 
     def test_groups_are_of_the_store_just_ahead(self):
         group = ((2, (1,)), (5, (1,)))
@@ -152,7 +143,7 @@ class Books(Case):
         self.check(store, (("group", ring(13), lot[1:]),), (0, ("want", 11, 0)))
 
     def test_long_book(self):
-        book = tuple(plain(number, [DAYS], (day(number), day(number + 1))) for number in range(1, 400))
+        book = tuple(plain(number, [DAY], (day(number), day(number + 1))) for number in range(1, 400))
         store = (SCHEMA, day(1))
         self.check(store, (plain(0),) + book, None)
         self.gives(store_behind(store, (plain(0),) + book)[1], day(400))
@@ -169,7 +160,7 @@ def drawn_book(chance, store, pool):
             begin = chance.randint(0, len(stores) - 1)
             outs = tuple(fact for fact in stores[-1][1] if chance.random() < 0.2)
             ins = day(*[number for number in range(4) if chance.random() < 0.3 and ("day", (number,)) not in outs])
-            closing = plain(begin, [chance.choice((DAYS, SEATS))] if chance.random() < 0.4 else [], (outs, ins))
+            closing = plain(begin, [chance.choice((DAY, SEATS))] if chance.random() < 0.4 else [], (outs, ins))
         if right(store, tuple(book) + (closing,))[0] is not None and chance.random() < 0.7:
             continue
         book.append(closing)

@@ -182,6 +182,12 @@ class LeastCopies(Case):
         for row, expected in ((("?a", "?b"), 2), (("?a", "?a"), 2), ((1, "?a"), 2), ((1, 2), None)):
             self.gives(least_copies((same, template(["?a", "?b"], [("y", row)])), 0), expected)
 
+        # Two values are passed about between two templates; with the test each copy of the first one has but one.
+        for tests, expected in (([], 2), ([("=", "?a", "?b")], 4)):
+            first = template(["?a", "?b"], [("x", ("?a",))], [("y", ("?b",))], tests)
+            second = template(["?a", "?b"], [("y", ("?a",))], [("x", ("?b",))], [("!=", "?a", "?b")])
+            self.gives([least_copies((first, second), place) for place in range(2)], [expected] * 2)
+
     def test_bodies_and_writes_are_not_looked_at(self):
         names = tuple(NAMES[:3])
         body = (tuple(("other", names) for _ in range(6)), tuple(unlike(names)))

@@ -3,17 +3,15 @@
 import random
 import unittest
 
+from faircalls import START, WAITS, day, on_day, put, state, wish, words
 from onlywith.doors import Door, House
 from onlywith.errors import WithError
 from onlywith.ledgers import Ledger, come_up
-from pools import SCHEMA
 from support import ANY, Case, Pair, made, steady
-from test_fairs import WAITS, day, on_day, put, state, wish, words
 
 log_text = steady("logs", "log_text")
 
 BAD = ("BadRecord", {})
-START = (SCHEMA, day(1, 2))
 ONE = wish(words("a"), words("b"), [("in", "seat", ("?d", "x"))])
 OTHER = wish(words("b"), words("a"))
 COME = ("come", WAITS, None)

@@ -4,6 +4,7 @@ import itertools
 import random
 import unittest
 
+from faircalls import DAY, NOTHING, day, wish
 from pools import SCHEMA, Lots, drawn_pool, drawn_store
 from support import Case, steady
 
@@ -20,17 +21,6 @@ change_error = steady("stores", "change_error")
 rival = steady("stores", "rival")
 matched = steady("terms", "matched")
 fact_rank = steady("stores", "fact_rank")
-
-DAY = ((("day", ("?d",)),), ())
-NOTHING = ((), ())
-
-
-def wish(says=(), wants=(), writes=(), body=DAY):
-    return (body, tuple(says), tuple(wants), tuple(writes))
-
-
-def day(*numbers):
-    return tuple(("day", (number,)) for number in numbers)
 
 
 def seat(number, who):

@@ -3,28 +3,21 @@
 import random
 import unittest
 
+from faircalls import START, WAITS, day, drawn_call, on_day, put, state, wish, words
 from onlywith.errors import WithError
 from onlywith.fairs import Fair
 from onlywith.ledgers import Ledger, come_up
 from pools import SCHEMA, drawn_store
 from support import ANY, Case, Pair, made, steady
-from test_fairs import WAITS, day, drawn_call, on_day, put, state, wish, words
+from test_logs import check
 
 log_text = steady("logs", "log_text")
 read_log = steady("logs", "read_log")
 store_error = steady("stores", "store_error")
 
 BAD = ("BadRecord", {})
-START = (SCHEMA, day(1, 2))
 ONE = wish(words("a"), words("b"), [("in", "seat", ("?d", "x"))])
 OTHER = wish(words("b"), words("a"))
-
-
-def check(text):
-    value = 1
-    for sign in text:
-        value = (31 * value + ord(sign)) % 65521
-    return value
 
 
 def sealed(lines):

@@ -5,7 +5,6 @@ import unittest
 
 from hardpools import chain, days, pool_of, ring, wish
 from pools import Lots, drawn_pool, drawn_store
-from onlywith.errors import HasGroup
 from support import ANY, Case, at_path, paths_of, spoilt, steady, with_at
 
 no_paper = steady("papers", "no_paper")
