@@ -91,25 +91,29 @@ class PartySearch:
         equations = [marked((one, other), number) for sign, one, other in tests if sign == "="]
         return self.with_alike(draft + ((place, row),), tuple(equations))
 
-    def ways(self, draft, number, want, many):
-        """The drafts of at most so many copies in which another copy says what the copy of a number wants."""
-        makers = [(draft, other) for other in range(len(draft)) if other != number]
+    def makers(self, draft, many):
+        """The triples (draft, number, sayings) of the copies that could make wants, with one more copy or as it is."""
+        found = [(draft, number) for number in range(len(draft))]
         if len(draft) < many:
-            makers.extend([(self.with_copy(draft, place), len(draft)) for place in self.firsts])
+            found.extend([(self.with_copy(draft, place), len(draft)) for place in self.firsts])
+        return [(wider, number, said(self.templates[wider[number][0]], wider[number][1])) for wider, number in found]
+
+    def ways(self, makers, number, want):
+        """The drafts in which another one of the makers makes a want of the copy of a number."""
         found = {}
-        for wider, other in makers:
-            place, row = wider[other]
-            for word, told in said(self.templates[place], row):
-                if word == want[0] and len(told) == len(want[1]):
+        for wider, other, sayings in makers:
+            for word, told in sayings:
+                if other != number and word == want[0] and len(told) == len(want[1]):
                     found[self.with_alike(wider, tuple(zip(want[1], told)))] = True
         return [way for way in found if way is not None]
 
     def has_party(self, draft, many):
         """Whether a party of at most so many copies comes of a draft."""
+        makers = self.makers(draft, many)
         choices = []
         for number, want in lacks_of(self.templates, draft):
-            choices.append(self.ways(draft, number, want, many))
-            # Nothing is better than a want with one way, or with none.
+            choices.append(self.ways(makers, number, want))
+            # No want can have fewer ways than none; with one way there is no choice.
             if len(choices[-1]) < 2:
                 break
         if not choices:
